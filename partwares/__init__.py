@@ -1,0 +1,1 @@
+"""Partwares: wares put by and paid in parts."""
