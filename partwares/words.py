@@ -24,6 +24,17 @@ def is_number_in(thing, low, high):
     return isinstance(thing, int) and not isinstance(thing, bool) and low <= thing <= high
 
 
+def number_in(text, most):
+    """The number from 0 to most whose plain figures are just this text, else None."""
+    # Python refuses to read very long numbers, and none to most is so long.
+    if len(text) > len(str(most)) or not is_made_of(text, FIGURES):
+        return None
+    number = int(text)
+    if number > most or str(number) != text:
+        return None
+    return number
+
+
 def pence_text(pence):
     """The text of a sum: its crowns, a stroke, the pence left by two figures."""
     crowns, left = divmod(pence, CROWN)

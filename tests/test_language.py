@@ -1,6 +1,7 @@
 """Those rules of the language that are plain to see in the files of the package."""
 
 import ast
+import builtins
 import pathlib
 import re
 import unittest
@@ -11,6 +12,10 @@ BARRED_WORDS = (
     "Protocol", "ABC", "ABCMeta", "namedtuple", "NamedTuple", "TypedDict", "TYPE_CHECKING", "abstractmethod",
 )
 BARRED_PARTS = ("dataclass", "overload", "contextmanager")
+BUILTINS = (
+    "len", "range", "enumerate", "zip", "min", "max", "sum", "abs", "sorted", "reversed", "int", "str", "bool", "list",
+    "tuple", "dict", "set", "isinstance", "ord", "repr", "any", "all", "divmod", "super", "ValueError",
+)
 DOUBLE_UNDERSCORED = ("__init__", "__eq__", "__len__", "__str__", "__repr__")
 
 
@@ -59,6 +64,31 @@ class LanguageTest(unittest.TestCase):
                     self.assertEqual(node.level, 0)
                     self.assertTrue((node.module or "").startswith("partwares."))
                     self.assertNotIn("*", [alias.name for alias in node.names])
+
+    def test_no_two_files_import_from_each_other(self):
+        ahead = {name: set() for name, _ in files()}
+        for name, node in nodes():
+            if isinstance(node, ast.ImportFrom):
+                ahead[name].add(node.module.split(".")[1] + ".py")
+        while ahead:
+            free = [name for name in ahead if not ahead[name] & set(ahead)]
+            self.assertNotEqual(free, [], "a ring of imports")
+            for name in free:
+                del ahead[name]
+
+    def test_builtins_are_those_that_are_told(self):
+        for name, node in nodes():
+            if isinstance(node, ast.Name) and hasattr(builtins, node.id):
+                with self.subTest(file=name, line=node.lineno, word=node.id):
+                    self.assertIn(node.id, BUILTINS)
+                    self.assertIsInstance(node.ctx, ast.Load)
+            if isinstance(node, ast.arg):
+                self.assertFalse(hasattr(builtins, node.arg), (name, node.arg))
+
+    def test_lists_in_the_place_of_generators_and_sorted_in_that_of_sort(self):
+        for name, node in nodes():
+            self.assertNotIsInstance(node, ast.GeneratorExp, name)
+            self.assertFalse(isinstance(node, ast.Attribute) and node.attr == "sort", name)
 
     def test_names_are_plain(self):
         for name, node in nodes():

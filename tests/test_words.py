@@ -2,7 +2,7 @@
 
 import unittest
 
-from partwares.words import is_name, is_number_in, parts_of, pence_in, pence_text, share_up
+from partwares.words import is_name, is_number_in, number_in, parts_of, pence_in, pence_text, share_up
 
 MOST = 10 ** 9
 LETTERS = "abcdefghijklmnopqrstuvwxyz"
@@ -56,6 +56,21 @@ class IsNumberInTest(unittest.TestCase):
         for thing in (True, False, None, "1", "", [1], (1,), []):
             with self.subTest(repr(thing)):
                 self.assertIs(is_number_in(thing, 0, 1), False)
+
+
+class NumberInTest(unittest.TestCase):
+    def test_numbers_to_the_most(self):
+        for most in (0, 9, 10, 100, 400, 999):
+            for number in range(1100):
+                with self.subTest(most=most, number=number):
+                    self.assertEqual(number_in(str(number), most), number if number <= most else None)
+
+    def test_texts_otherwise(self):
+        for text in ("", " ", "00", "01", "007", "-0", "-1", "+1", " 1", "1 ", "1\n", "\n1", "\t1", "1_0", "1.", "1,0",
+                     "a", "1a",
+                     "0x1", "1e1", "None", "True", "9" * 5000, "0" * 5000):
+            with self.subTest(repr(text)):
+                self.assertIsNone(number_in(text, 999))
 
 
 class PenceTextTest(unittest.TestCase):

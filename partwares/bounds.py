@@ -1,0 +1,4 @@
+"""Bounds that more than one file looks at."""
+
+LAST_DAY = 400
+MOST_PRICE = 10 ** 6
