@@ -40,7 +40,12 @@ def paid_on(rule, state, day):
 def last_day(rule, days):
     """The last day on which the next part may be paid, None where it is gone or sold."""
     end = days[-1] if len(days) > 0 else 0
-    word, due, paid, missed = course(rule, days, end)
+    return last_day_of(rule, course(rule, days, end))
+
+
+def last_day_of(rule, state):
+    """The last day on which the next part may be paid by this state, None where it doesn't stand."""
+    word, due, paid, missed = state
     if word != "stands":
         return None
     return due + (rule.misses - missed) * rule.step + rule.grace

@@ -98,6 +98,42 @@ class LanguageTest(unittest.TestCase):
                 with self.subTest(file=name, word=word):
                     self.assertTrue(not word.startswith("_") or word in DOUBLE_UNDERSCORED)
 
+    def test_no_name_is_a_method_and_an_attribute(self):
+        methods, attributes, used = set(), set(), set()
+        for _, node in nodes():
+            if isinstance(node, ast.ClassDef):
+                methods |= {part.name for part in node.body if isinstance(part, ast.FunctionDef)}
+            if isinstance(node, ast.Attribute):
+                used.add(node.attr)
+                if isinstance(node.ctx, ast.Store):
+                    attributes.add(node.attr)
+        self.assertEqual(methods & attributes, set())
+        built_in = {name for kind in (str, int, list, dict, set, bytes, tuple) for name in dir(kind)}
+        self.assertEqual((methods | attributes) & built_in - set(DOUBLE_UNDERSCORED), set())
+        self.assertEqual(used & {"format", "format_map", "mro", "register", "elements", "args"}, set())
+
+    def test_no_name_in_a_function_is_that_of_an_import_or_a_class(self):
+        for name, text in files():
+            tree = ast.parse(text)
+            taken = {alias.name for node in ast.walk(tree) if isinstance(node, ast.ImportFrom) for alias in node.names}
+            taken |= {node.name for node in ast.walk(tree) if isinstance(node, (ast.ClassDef, ast.FunctionDef))
+                      and node in tree.body}
+            for node in ast.walk(tree):
+                if isinstance(node, ast.arg):
+                    self.assertNotIn(node.arg, taken, name)
+                if isinstance(node, ast.Name) and isinstance(node.ctx, ast.Store):
+                    self.assertNotIn(node.id, taken, name)
+
+    def test_tables_hold_no_lists_and_are_only_read(self):
+        for name, text in files():
+            for row in ast.parse(text).body:
+                if isinstance(row, ast.Assign):
+                    with self.subTest(file=name, line=row.lineno):
+                        self.assertIsInstance(row.targets[0], ast.Name)
+                        inner = [node for node in ast.walk(row.value) if isinstance(node, (ast.List, ast.Dict))]
+                        self.assertLessEqual(len(inner), 1)
+                        self.assertFalse([node for node in ast.walk(row.value) if isinstance(node, ast.Call)])
+
     def test_no_floats_and_no_statements_that_are_barred(self):
         barred = (ast.Global, ast.AsyncFunctionDef, ast.Div, ast.Await, ast.AsyncFor, ast.AsyncWith)
         for name, node in nodes():
