@@ -31,7 +31,6 @@ class Putby:
         """Gives the ware up; what isn't kept is paid back."""
         course = self.standing_on(day)
         self.passed = day
-        self.course = course
         self.let_off("up", day, self.rule.keeps(course[2]))
 
     def price_falls(self, day, price):
